@@ -3,6 +3,7 @@ package vault_test
 import (
 	"bytes"
 	"encoding/binary"
+	"maps"
 	"math"
 	"math/rand"
 	"regexp"
@@ -501,9 +502,11 @@ func TestOpenLastStates(t *testing.T) {
 		{file(1, []inst.Inst{com, pre}, nil, pre), []inst.Inst{pre}, []index.Entry{a, b}},
 		{file(1, nil, []index.Entry{entry("a", 1, 4, deps{1: 2, 3: 9}), entry("a", 1, 2, deps{0: 1})}, pre), []inst.Inst{pre}, []index.Entry{entry("a", 1, 4, deps{0: 1, 1: 5, 3: 9})}},
 		{file(1, nil, []index.Entry{b, a}), nil, []index.Entry{a, b}},
-		// Of a state with nothing known there is none.
-		{file(1, nil, nil, inst.New(id)), nil, nil},
-		{file(1, []inst.Inst{pre, bare}, nil, inst.New(id)), nil, []index.Entry{a}},
+		// A state with nothing known is one, too.
+		{file(1, nil, nil, inst.New(id)), []inst.Inst{inst.New(id)}, nil},
+		{file(1, []inst.Inst{inst.New(id)}, nil), []inst.Inst{inst.New(id)}, nil},
+		{file(1, nil, nil, inst.Inst{}), []inst.Inst{{}}, nil},
+		{file(1, []inst.Inst{pre, bare}, nil, inst.New(id)), []inst.Inst{inst.New(id)}, []index.Entry{a}},
 		{file(1, []inst.Inst{inst.New(id)}, nil, bare), []inst.Inst{bare}, nil},
 	} {
 		v := opened(t, with(t, least, x.file, nil))
@@ -655,15 +658,9 @@ func scan(b []byte) scanned {
 	return s
 }
 
-// listed are states by their names, those with nothing known left out.
+// listed are states by their names.
 func listed(states map[mark.ID]inst.Inst) []inst.Inst {
-	var l []inst.Inst
-	for _, x := range states {
-		if x != inst.New(x.ID) {
-			l = append(l, x)
-		}
-	}
-	return sorted(l...)
+	return sorted(slices.Collect(maps.Values(states))...)
 }
 
 // sorted are states by their names.
@@ -985,21 +982,57 @@ func TestWriteNone(t *testing.T) {
 	generation(t, v, 1)
 }
 
-// P15.2: of a state with nothing known there is none, though its record is written.
+// nothingKnown are states with nothing known, by their names: the first one is zero.
+func nothingKnown() []inst.Inst {
+	return []inst.Inst{{}, inst.New(at(0, 1)), inst.New(at(3, 7)), inst.New(at(4, 4)), inst.New(at(6, 1023))}
+}
+
+// P15.1 to P15.3: a state with nothing known that was written is known like any other one, but nothing is noted of it.
 func TestWriteNothingKnown(t *testing.T) {
+	for _, l := range [][]inst.Inst{nothingKnown()[:1], nothingKnown()[1:2], nothingKnown()[4:], nothingKnown()} {
+		d := fresh(t, least)
+		v := opened(t, d)
+		check := func(generation uint64, a, b []byte) {
+			t.Helper()
+			holds(t, d, a, b)
+			for _, v := range []*vault.Vault{v, opened(t, d)} {
+				has(t, v, l...)
+				heard(t, v)
+				if v.Generation() != generation {
+					t.Error(v.Generation())
+				}
+			}
+		}
+		spends(t, d, len(statedAll(l...))+1, func(v *vault.Vault) api.Errno { return v.Write(l...) })
+		writes(t, v, l...)
+		check(1, file(1, nil, nil, l...), nil)
+		// Another one of the same may come behind it.
+		writes(t, v, l[0])
+		check(1, file(1, nil, nil, append(slices.Clone(l), l[0])...), nil)
+		is(t, v.Draw(), api.OK)
+		check(2, nil, file(2, l, nil))
+		v = opened(t, d)
+		is(t, v.Draw(), api.OK)
+		check(3, file(3, l, nil), nil)
+	}
+}
+
+// P15.2: a state of which more is known may come behind one with nothing known; not the other way.
+func TestWriteBehindNothingKnown(t *testing.T) {
 	d := fresh(t, least)
 	v := opened(t, d)
-	zero := inst.New(at(4, 4))
-	writes(t, v, zero)
-	holds(t, d, file(1, nil, nil, zero), nil)
-	has(t, v)
-	heard(t, v)
-	has(t, opened(t, d))
-	writes(t, v, zero, promised(at(4, 4), 9), promised(at(4, 4), 10))
-	has(t, v, promised(at(4, 4), 10))
+	zero, other := inst.New(at(4, 4)), inst.New(at(4, 9))
+	writes(t, v, other, zero, promised(zero.ID, 9), promised(zero.ID, 10))
+	has(t, v, promised(zero.ID, 10), other)
 	is(t, v.Write(zero), api.ErrForm)
+	pre := valued(zero.ID, inst.Pre, 10, closing(1, "a"), 3)
+	writes(t, v, pre)
+	is(t, v.Write(zero), api.ErrForm)
+	has(t, v, pre, other)
+	heard(t, v, entry("a", 1, 3, deps{4: 5}))
 	is(t, v.Draw(), api.OK)
-	holds(t, d, nil, file(2, []inst.Inst{promised(at(4, 4), 10)}, nil))
+	holds(t, d, nil, file(2, []inst.Inst{pre, other}, v.Entries()))
+	has(t, opened(t, d), pre, other)
 }
 
 // rising is a file with states of which some were written over, so that it has so many bytes more than the picture of its vault.
@@ -1062,7 +1095,7 @@ func large() []inst.Inst {
 // P15.2: the picture is drawn anew, if there were no room for it behind the records, but is now.
 func TestWriteDraws(t *testing.T) {
 	x := valued(at(1, 1), inst.Accepted, 17, acquiring(4, "a/b/c"), 3)
-	for _, in := range [][]inst.Inst{some(), large(), {promised(at(0, 0), 9), promised(at(6, 6), 9)}, nil} {
+	for _, in := range [][]inst.Inst{some(), large(), {promised(at(0, 0), 9), promised(at(6, 6), 9)}, nothingKnown(), nil} {
 		b, p := long(t, 120, in...)
 		n := len(stated(x))
 		for _, left := range []int{p + n + 1, p + n, p + n - 1, p + 1, p, p - 1, n + 1, n, n - 1, 0} {
@@ -1590,6 +1623,32 @@ func TestCrash(t *testing.T) {
 	}
 	if torn < 50 || between < 50 || drawn < 10 {
 		t.Error("too seldom:", torn, between, drawn)
+	}
+}
+
+// P15.4: states with nothing known outlive the power's going like others: those written with OK are there, and a beginning of those that weren't.
+func TestCrashNothingKnown(t *testing.T) {
+	random := rand.New(rand.NewSource(157))
+	l := nothingKnown()
+	s := [][]inst.Inst{l[:2], nil, l[2:], nil}
+	for units := 0; ; units++ {
+		d, m := fresh(t, least), newModel(least)
+		v := opened(t, d)
+		d.Arm(units)
+		done, e := play(t, v, s, m)
+		m.tells(t, v)
+		if e == api.OK {
+			has(t, v, l...)
+			return
+		}
+		is(t, e, api.ErrDown)
+		for _, k := range keeps(d, random) {
+			c := d.Copy()
+			c.Crash(k)
+			w := opened(t, c)
+			outlived(t, w, m, s[done])
+			tidied(t, c, w)
+		}
 	}
 }
 
